@@ -1,0 +1,1 @@
+"""Setsums: numbers told for every set of some names."""

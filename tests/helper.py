@@ -1,0 +1,137 @@
+"""What several test files need: things that are refused, and a test case that looks closely."""
+
+import copy
+import unittest
+
+from setsums.errors import SetError
+
+
+class Thing:
+    """An object of a class that the program does not know."""
+
+
+class Likewise:
+    """An object that says it is alike with, and may be used as, the number 1."""
+
+    def __eq__(self, other):
+        return True
+
+    def __hash__(self):
+        return 1
+
+    def __index__(self):
+        return 1
+
+    def __int__(self):
+        return 1
+
+
+class Silent:
+    """An object that cannot be written out."""
+
+    def __repr__(self):
+        raise RuntimeError("not to be written out")
+
+    __str__ = __repr__
+
+
+def no_wholes():
+    """Things that are no whole numbers."""
+    return [
+        None, True, False, "", "1", b"1", 1.0, 0.0, 1j,
+        (), (1,), [], [1], {}, {1: 1}, set(), {1}, range(2),
+        int, len, Thing(), Likewise(), Silent(),
+    ]
+
+
+def no_lists():
+    """Things that are no lists."""
+    return [
+        None, True, False, 0, 1, -1, 10 ** 30, "", "1", "12", b"12", 1.0,
+        (), (1,), (1, 2), {}, {0: 1}, {0: 1, 1: 2}, set(), {1, 2}, range(2),
+        iter([1, 2]), list, len, Thing(), Likewise(), Silent(),
+    ]
+
+
+def no_tables():
+    """Things that are no tables: no lists, lists of a wrong length, lists with a wrong thing."""
+    wrong_lengths = [[7] * length for length in (0, 3, 5, 6, 7, 9, 12, 1000, 1023, 1025, 2047, 2048, 4096)]
+    wrong_things = [[thing] for thing in no_wholes()]
+    wrong_places = []
+    for many in range(5):
+        for place in range(2 ** many):
+            for thing in (None, True, False, "1", 1.0, [1], Likewise()):
+                table = list(range(2 ** many))
+                table[place] = thing
+                wrong_places.append(table)
+    for place in (0, 511, 512, 1023):
+        table = list(range(1024))
+        table[place] = True
+        wrong_places.append(table)
+    return no_lists() + wrong_lengths + wrong_things + wrong_places
+
+
+def some_tables():
+    """Tables of none to ten names, with numbers below nought and very large ones."""
+    tables = [[0], [-3], [10 ** 3999], [-(10 ** 3999)], [2, 1], [-(10 ** 50), 10 ** 50]]
+    for many in range(11):
+        places = range(2 ** many)
+        tables.append([0 for _ in places])
+        tables.append([place * place - 7 * place for place in places])
+        tables.append([(-1) ** place * (10 ** 40 + place) for place in places])
+    return tables
+
+
+class SetsumsTest(unittest.TestCase):
+    def assert_refused(self, refusal, call, *handed):
+        """The call is refused with just this refusal, and the lists handed in stay as they were."""
+        before = [copy.copy(thing) if isinstance(thing, list) else thing for thing in handed]
+        with self.assertRaises(SetError) as caught:
+            call(*handed)
+        self.assertIs(type(caught.exception), refusal)
+        for thing, was in zip(handed, before):
+            if isinstance(thing, list):
+                self.assert_same_things(thing, was)
+
+    def assert_same_things(self, told, wanted):
+        self.assertEqual(len(told), len(wanted))
+        for one, other in zip(told, wanted):
+            self.assertIs(one, other)
+
+    def assert_number(self, told, wanted):
+        """The very number, of Python's own kind int."""
+        self.assertIs(type(told), int)
+        self.assertTrue(told == wanted, "another number")
+
+    def assert_list(self, told, wanted):
+        """A list of just these whole numbers."""
+        self.assertIs(type(told), list)
+        self.assertEqual(len(told), len(wanted))
+        for one, other in zip(told, wanted):
+            self.assert_number(one, other)
+
+    def assert_own(self, call, wanted, *handed):
+        """The list told is the asker's own, and what was handed in stays as it was.
+
+        What is done to the list told, or later to the lists handed in, changes nothing.
+        """
+        before = [list(thing) if isinstance(thing, list) else thing for thing in handed]
+        told = call(*handed)
+        self.assert_list(told, wanted)
+        for thing, was in zip(handed, before):
+            self.assertIsNot(told, thing)
+            if isinstance(thing, list):
+                self.assert_same_things(thing, was)
+        told.append(5)
+        told[0] = -99
+        for thing, was in zip(handed, before):
+            if isinstance(thing, list):
+                self.assert_same_things(thing, was)
+        again = call(*handed)
+        self.assertIsNot(again, told)
+        self.assert_list(again, wanted)
+        for thing in handed:
+            if isinstance(thing, list):
+                thing.clear()
+        self.assert_list(again, wanted)
+        self.assert_list(call(*before), wanted)

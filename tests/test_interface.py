@@ -1,0 +1,64 @@
+"""The head of the interface: each name, with its arguments, in the file that lists it."""
+
+import ast
+import importlib
+import inspect
+import pathlib
+import unittest
+
+PACKAGE = pathlib.Path(__file__).resolve().parent.parent / "setsums"
+
+FUNCTIONS = {
+    "sets": {
+        "size_of": ["one"],
+        "is_part": ["one", "other"],
+        "parts": ["one"],
+        "members": ["one"],
+        "set_of": ["names"],
+    },
+    "tables": {
+        "names_of": ["table"],
+        "blank": ["many"],
+        "lone": ["many", "one"],
+        "added": ["one", "other"],
+        "multiplied": ["one", "other"],
+        "contrary": ["table"],
+    },
+}
+
+CLASSES = {
+    "errors": [
+        "SetError", "BadCount", "BadSet", "BadName", "BadNumber", "BadOrder", "BadTable", "Unlike", "NoCover",
+        "NothingDone",
+    ],
+}
+
+
+def defined_in(file_name, kind):
+    """The names that a file defines itself, at its top."""
+    tree = ast.parse((PACKAGE / f"{file_name}.py").read_text(encoding="utf-8"))
+    return [node.name for node in tree.body if isinstance(node, kind)]
+
+
+class InterfaceTest(unittest.TestCase):
+    def test_each_function_stands_in_its_file_with_its_arguments(self):
+        for file_name, functions in FUNCTIONS.items():
+            module = importlib.import_module(f"setsums.{file_name}")
+            defined = defined_in(file_name, ast.FunctionDef)
+            for name, arguments in functions.items():
+                self.assertIn(name, defined)
+                parameters = inspect.signature(getattr(module, name)).parameters
+                self.assertEqual(list(parameters), arguments)
+                for parameter in parameters.values():
+                    self.assertIs(parameter.kind, inspect.Parameter.POSITIONAL_OR_KEYWORD)
+                    self.assertIs(parameter.default, inspect.Parameter.empty)
+
+    def test_each_class_stands_in_its_file(self):
+        for file_name, names in CLASSES.items():
+            defined = defined_in(file_name, ast.ClassDef)
+            for name in names:
+                self.assertIn(name, defined)
+
+
+if __name__ == "__main__":
+    unittest.main()
