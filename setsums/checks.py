@@ -53,3 +53,14 @@ def check_two_tables(one, other):
     check_table(other)
     if len(one) != len(other):
         raise Unlike("the two tables have unlike many names")
+
+
+def check_ranks(tables):
+    """Refuse what is no list of N + 1 tables of N names."""
+    # There are ten names at most, so no list of more than eleven tables is one.
+    if not isinstance(tables, list) or not 1 <= len(tables) <= MOST_NAMES + 1:
+        raise BadTable("the tables come in a list, for N names N + 1 of them")
+    for table in tables:
+        check_table(table)
+        if len(table) != 1 << (len(tables) - 1):
+            raise BadTable("each of N + 1 tables has N names")

@@ -82,6 +82,27 @@ def some_tables():
     return tables
 
 
+def names_in(one):
+    """The names of a set, read from its binary figures."""
+    figures = f"{one:b}"[::-1]
+    return [name for name, figure in enumerate(figures) if figure == "1"]
+
+
+def drawn_table(source, many, most=9):
+    """A table of so many names, of numbers drawn from a random.Random: none farther from nought than the most."""
+    return [source.randint(-most, most) for _ in range(2 ** many)]
+
+
+def drawn_tables(source, many):
+    """Tables of so many names: of small numbers, of large ones, of few that are not nought."""
+    small = drawn_table(source, many)
+    large = drawn_table(source, many, 10 ** 60)
+    few = [0] * 2 ** many
+    for _ in range(3):
+        few[source.randrange(2 ** many)] = source.choice((-1, 1, 10 ** 30))
+    return [small, large, few]
+
+
 class SetsumsTest(unittest.TestCase):
     def assert_refused(self, refusal, call, *handed):
         """The call is refused with just this refusal, and the lists handed in stay as they were."""
@@ -110,14 +131,18 @@ class SetsumsTest(unittest.TestCase):
         for one, other in zip(told, wanted):
             self.assert_number(one, other)
 
-    def assert_own(self, call, wanted, *handed):
+    def assert_own(self, call, wanted, *handed, between=None):
         """The list told is the asker's own, and what was handed in stays as it was.
 
-        What is done to the list told, or later to the lists handed in, changes nothing.
+        What is done to the list told, or later to the lists handed in, changes nothing;
+        neither does what is asked in between, of other things handed in.
         """
         before = [list(thing) if isinstance(thing, list) else thing for thing in handed]
         told = call(*handed)
         self.assert_list(told, wanted)
+        if between is not None:
+            self.assertIsNot(call(*between), told)
+            self.assert_list(told, wanted)
         for thing, was in zip(handed, before):
             self.assertIsNot(told, thing)
             if isinstance(thing, list):
@@ -127,6 +152,8 @@ class SetsumsTest(unittest.TestCase):
         for thing, was in zip(handed, before):
             if isinstance(thing, list):
                 self.assert_same_things(thing, was)
+        if between is not None:
+            call(*between)
         again = call(*handed)
         self.assertIsNot(again, told)
         self.assert_list(again, wanted)

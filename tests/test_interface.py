@@ -24,6 +24,24 @@ FUNCTIONS = {
         "multiplied": ["one", "other"],
         "contrary": ["table"],
     },
+    "sums": {
+        "below": ["table"],
+        "above": ["table"],
+        "signed": ["table"],
+        "from_below": ["table"],
+        "from_above": ["table"],
+        "from_signed": ["table"],
+    },
+    "ranks": {
+        "ranked": ["table"],
+        "from_ranked": ["tables"],
+    },
+    "products": {
+        "joined": ["one", "other"],
+        "met": ["one", "other"],
+        "apart": ["one", "other"],
+        "crossed": ["one", "other"],
+    },
 }
 
 CLASSES = {

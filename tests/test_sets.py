@@ -3,7 +3,7 @@
 import itertools
 import unittest
 
-from helper import SetsumsTest, no_lists, no_wholes
+from helper import SetsumsTest, names_in, no_lists, no_wholes
 from setsums.errors import BadName, BadSet
 from setsums.sets import is_part, members, parts, set_of, size_of
 
@@ -11,15 +11,9 @@ ALL_TEN = 1023
 NO_SETS = [-1, -2, -1023, -1024, 1024, 1025, 2047, 10 ** 30, -(10 ** 30), 10 ** 3999]
 
 
-def names_by_text(one):
-    """The names of a set, read from its binary figures."""
-    figures = f"{one:b}"[::-1]
-    return [name for name, figure in enumerate(figures) if figure == "1"]
-
-
 def parts_by_names(one):
     """All parts of a set, put together from its names."""
-    names = names_by_text(one)
+    names = names_in(one)
     found = []
     for size in range(len(names) + 1):
         for chosen in itertools.combinations(names, size):
@@ -38,7 +32,7 @@ class SizeTest(SetsumsTest):
 
     def test_each_set(self):
         for one in range(1024):
-            self.assert_number(size_of(one), len(names_by_text(one)))
+            self.assert_number(size_of(one), len(names_in(one)))
 
     def test_refused(self):
         for thing in NO_SETS + no_wholes():
@@ -69,7 +63,7 @@ class IsPartTest(SetsumsTest):
     def test_each_pair_of_six_names(self):
         for one in range(64):
             for other in range(64):
-                wanted = all(name in names_by_text(other) for name in names_by_text(one))
+                wanted = all(name in names_in(other) for name in names_in(one))
                 self.assertIs(is_part(one, other), wanted)
 
     def test_refused(self):
@@ -123,7 +117,7 @@ class MembersTest(SetsumsTest):
 
     def test_each_set(self):
         for one in range(1024):
-            self.assert_list(members(one), names_by_text(one))
+            self.assert_list(members(one), names_in(one))
 
     def test_what_is_told_is_the_askers_own(self):
         self.assert_own(members, [0, 2], 5)
