@@ -3,9 +3,11 @@
 # No message shows the thing that is refused: to write it out may itself
 # fail, for a very large number or for an object of a caller's own class.
 
-from setsums.errors import BadCount, BadSet, BadTable, Unlike
+from setsums.errors import BadCount, BadName, BadNumber, BadOrder, BadSet, BadTable, Unlike
 
 MOST_NAMES = 10
+MOST_SETS = 40
+MOST_PLACES = 20
 
 
 def is_whole(thing):
@@ -35,6 +37,43 @@ def check_set(one, many):
     """Refuse what is no set of so many names."""
     if not is_whole_below(one, 1 << many):
         raise BadSet("a set of N names is a whole number from 0 to 2 ** N - 1")
+
+
+def check_sets(sets, many):
+    """Refuse what is no list of sets of so many names."""
+    if not isinstance(sets, list) or len(sets) > MOST_SETS:
+        raise BadSet("the sets come in a list of at most 40")
+    for one in sets:
+        check_set(one, many)
+
+
+def check_name(name, many):
+    """Refuse what is none of so many names."""
+    if not is_whole_below(name, many):
+        raise BadName("a name of N is a whole number from 0 to N - 1")
+
+
+def check_order(order, many):
+    """Refuse what is no list of all of so many names, each once."""
+    if not isinstance(order, list) or len(order) != many:
+        raise BadOrder("an order is a list of all names")
+    for name in order:
+        if not is_whole_below(name, many):
+            raise BadOrder("an order has names of the table only")
+    if sorted(order) != list(range(many)):
+        raise BadOrder("an order has each name once")
+
+
+def check_number(number):
+    """Refuse what is no whole number."""
+    if not is_whole(number):
+        raise BadNumber("a number that is added is a whole number")
+
+
+def check_long(long):
+    """Refuse what is no number of places that a row may have."""
+    if not is_whole_below(long, MOST_PLACES + 1):
+        raise BadNumber("how many places a row has is a whole number from 0 to 20")
 
 
 def check_table(table):

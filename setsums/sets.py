@@ -1,6 +1,6 @@
 """Sets of the names 0 to 9, each a whole number whose bit K stands for the name K."""
 
-from setsums.checks import MOST_NAMES, check_set, is_whole_below
+from setsums.checks import MOST_NAMES, check_name, check_set
 from setsums.errors import BadName
 
 
@@ -34,8 +34,7 @@ def set_of(names):
         raise BadName("the names come in a list")
     one = 0
     for name in names:
-        if not is_whole_below(name, MOST_NAMES):
-            raise BadName("a name is a whole number from 0 to 9")
+        check_name(name, MOST_NAMES)
         if one >> name & 1:
             raise BadName("a name stands in the list twice")
         one |= 1 << name

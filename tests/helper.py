@@ -5,6 +5,8 @@ import unittest
 
 from setsums.errors import SetError
 
+NO_COUNTS = [-1, -2, 11, 12, 1024, 10 ** 30, -(10 ** 30), 10 ** 3999]
+
 
 class Thing:
     """An object of a class that the program does not know."""
@@ -42,6 +44,22 @@ def no_wholes():
         (), (1,), [], [1], {}, {1: 1}, set(), {1}, range(2),
         int, len, Thing(), Likewise(), Silent(),
     ]
+
+
+def no_counts():
+    """Things that are no numbers of names."""
+    return NO_COUNTS + no_wholes()
+
+
+def no_sets(many):
+    """Things that are no sets of so many names."""
+    wrong = [-1, -2, -(2 ** many), 2 ** many, 2 ** many + 1, 2 ** (many + 1), 10 ** 30, -(10 ** 30), 10 ** 3999]
+    return wrong + no_wholes()
+
+
+def no_names(many):
+    """Things that are none of so many names."""
+    return [-1, -2, -many - 1, many, many + 1, 2 ** many + many, 10 ** 30, -(10 ** 30), 10 ** 3999] + no_wholes()
 
 
 def no_lists():
@@ -86,6 +104,21 @@ def names_in(one):
     """The names of a set, read from its binary figures."""
     figures = f"{one:b}"[::-1]
     return [name for name, figure in enumerate(figures) if figure == "1"]
+
+
+def set_with(names):
+    """The set of these names; a name that comes twice counts once."""
+    return sum(2 ** name for name in set(names))
+
+
+def told_otherwise(table, order):
+    """The table of which name K is the name order[K] of the one told, looked up name by name."""
+    return [table[set_with(order[name] for name in names_in(one))] for one in range(len(table))]
+
+
+def drawn_order(source, many):
+    """An order of so many names, drawn from a random.Random."""
+    return source.sample(range(many), many)
 
 
 def drawn_table(source, many, most=9):

@@ -42,6 +42,16 @@ FUNCTIONS = {
         "apart": ["one", "other"],
         "crossed": ["one", "other"],
     },
+    "names": {
+        "reordered": ["table", "order"],
+        "with_name": ["without", "holding", "name"],
+        "parted": ["table", "name"],
+    },
+    "covers": {
+        "covers": ["many", "sets", "long"],
+        "fewest": ["many", "sets"],
+        "least_cover": ["many", "sets"],
+    },
 }
 
 CLASSES = {
@@ -49,6 +59,19 @@ CLASSES = {
         "SetError", "BadCount", "BadSet", "BadName", "BadNumber", "BadOrder", "BadTable", "Unlike", "NoCover",
         "NothingDone",
     ],
+    "book": ["Book"],
+}
+
+METHODS = {
+    "__init__": ["self", "many"],
+    "put": ["self", "one", "number"],
+    "swap": ["self", "name", "other"],
+    "undo": ["self"],
+    "value": ["self", "one"],
+    "under": ["self", "one"],
+    "over": ["self", "one"],
+    "table": ["self"],
+    "many_done": ["self"],
 }
 
 
@@ -59,23 +82,32 @@ def defined_in(file_name, kind):
 
 
 class InterfaceTest(unittest.TestCase):
+    def assert_arguments(self, function, arguments):
+        parameters = inspect.signature(function).parameters
+        self.assertEqual(list(parameters), arguments)
+        for parameter in parameters.values():
+            self.assertIs(parameter.kind, inspect.Parameter.POSITIONAL_OR_KEYWORD)
+            self.assertIs(parameter.default, inspect.Parameter.empty)
+
     def test_each_function_stands_in_its_file_with_its_arguments(self):
         for file_name, functions in FUNCTIONS.items():
             module = importlib.import_module(f"setsums.{file_name}")
             defined = defined_in(file_name, ast.FunctionDef)
             for name, arguments in functions.items():
                 self.assertIn(name, defined)
-                parameters = inspect.signature(getattr(module, name)).parameters
-                self.assertEqual(list(parameters), arguments)
-                for parameter in parameters.values():
-                    self.assertIs(parameter.kind, inspect.Parameter.POSITIONAL_OR_KEYWORD)
-                    self.assertIs(parameter.default, inspect.Parameter.empty)
+                self.assert_arguments(getattr(module, name), arguments)
 
     def test_each_class_stands_in_its_file(self):
         for file_name, names in CLASSES.items():
             defined = defined_in(file_name, ast.ClassDef)
             for name in names:
                 self.assertIn(name, defined)
+
+    def test_the_book_defines_each_method_itself_with_its_arguments(self):
+        book = importlib.import_module("setsums.book").Book
+        for name, arguments in METHODS.items():
+            self.assertIn(name, vars(book))
+            self.assert_arguments(vars(book)[name], arguments)
 
 
 if __name__ == "__main__":

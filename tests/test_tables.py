@@ -2,11 +2,9 @@
 
 import unittest
 
-from helper import SetsumsTest, no_tables, no_wholes, some_tables
+from helper import NO_COUNTS, SetsumsTest, no_tables, no_wholes, some_tables
 from setsums.errors import BadCount, BadSet, BadTable, Unlike
 from setsums.tables import added, blank, contrary, lone, multiplied, names_of
-
-NO_COUNTS = [-1, -2, 11, 12, 1024, 10 ** 30, -(10 ** 30), 10 ** 3999]
 
 
 class NamesOfTest(SetsumsTest):
